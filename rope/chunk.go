@@ -53,6 +53,9 @@ func locate(t row, at int) (int, string, int) {
 // replace gives the row with s in the place of bytes from to to - 1, both of
 // which are edges; s is Valid.
 func replace(t row, from, to int, s string) row {
+	if from == to && s == "" {
+		return t
+	}
 	first, head, fromWithin := locate(t, from)
 	last, tail, toWithin := locate(t, to)
 	return weld(t.Slice(0, first), head[:fromWithin]+s+tail[toWithin:], t.Slice(last+1, t.Len()))

@@ -80,17 +80,28 @@ func meld[L Leaf[S], S Sum[S]](a, b *node[L, S]) []*node[L, S] {
 	return []*node[L, S]{a, b}
 }
 
-// split gives the trees of the first at leaves and of the others.
-func split[L Leaf[S], S Sum[S]](n *node[L, S], at int) (*node[L, S], *node[L, S]) {
+// head gives the tree of the first at leaves.
+func head[L Leaf[S], S Sum[S]](n *node[L, S], at int) *node[L, S] {
 	if n == nil || at <= 0 {
-		return nil, n
+		return nil
 	}
 	if at >= n.size {
-		return n, nil
+		return n
 	}
 	i, within := n.way(at)
-	ahead, behind := split(n.kids[i], within)
-	return join(only(n.kids[:i]), ahead), join(behind, only(n.kids[i+1:]))
+	return join(only(n.kids[:i]), head(n.kids[i], within))
+}
+
+// tail gives the tree of all leaves but the first at.
+func tail[L Leaf[S], S Sum[S]](n *node[L, S], at int) *node[L, S] {
+	if n == nil || at <= 0 {
+		return n
+	}
+	if at >= n.size {
+		return nil
+	}
+	i, within := n.way(at)
+	return join(tail(n.kids[i], within), only(n.kids[i+1:]))
 }
 
 // way tells which kid has the leaf at at, a place of the node, and where.

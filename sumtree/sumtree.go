@@ -106,10 +106,7 @@ func (t Tree[L, S]) Find(above func(S) bool) (int, S) {
 // Slice gives the tree of the leaves from from to to - 1, both held into the
 // row.
 func (t Tree[L, S]) Slice(from, to int) Tree[L, S] {
-	from = t.held(from)
-	_, behind := split(t.root, from)
-	within, _ := split(behind, t.held(to)-from)
-	return Tree[L, S]{root: within}
+	return Tree[L, S]{root: tail(head(t.root, t.held(to)), t.held(from))}
 }
 
 // Join gives the tree of t's leaves and o's behind them.
@@ -120,8 +117,8 @@ func (t Tree[L, S]) Join(o Tree[L, S]) Tree[L, S] {
 // Replace gives the tree with o's leaves in the place of those from from to
 // to - 1, both held into the row, to to what is not below from.
 func (t Tree[L, S]) Replace(from, to int, o Tree[L, S]) Tree[L, S] {
-	ahead, _ := split(t.root, t.held(from))
-	_, behind := split(t.root, t.held(max(from, to)))
+	ahead := head(t.root, t.held(from))
+	behind := tail(t.root, t.held(max(from, to)))
 	return Tree[L, S]{root: join(join(ahead, o.root), behind)}
 }
 
